@@ -1,0 +1,1 @@
+"""Fontfall: a text shown by faces that have some signs each."""
