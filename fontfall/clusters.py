@@ -17,6 +17,17 @@ def parted(text):
     return [tuple(cluster) for cluster in clusters]
 
 
+def bounds(text):
+    """Tell for each cluster of a text the place of its first sign and the place behind its last."""
+    told = []
+    end = 0
+    for cluster in parted(text):
+        begin = end
+        end += len(cluster)
+        told.append((begin, end))
+    return told
+
+
 def refuse_no_text(text):
     """Raise BadSign if a number of the text is no sign."""
     for place, number in enumerate(text):

@@ -3,8 +3,9 @@
 import itertools
 import unittest
 
+import trying
 from fontfall import clusters
-from fontfall.clusters import parted
+from fontfall.clusters import bounds, parted
 from fontfall.errors import BadSign
 
 
@@ -66,6 +67,17 @@ class PartedTest(unittest.TestCase):
             self.assertTrue(cluster)
             self.assertTrue(cluster[0] < 800 or number == 0)
             self.assertTrue(all(sign >= 800 for sign in cluster[1:]))
+
+
+class BoundsTest(unittest.TestCase):
+    def test_the_places_of_each_cluster(self):
+        self.assertEqual(bounds([]), [])
+        self.assertEqual(bounds([801, 802, 5, 6, 803]), [(0, 2), (2, 3), (3, 5)])
+
+    def test_every_short_text(self):
+        for text in trying.texts(6, (0, 799, 800, 999)):
+            self.assertEqual(bounds(text), trying.spans(text))
+            self.assertEqual([tuple(text[begin:end]) for begin, end in bounds(text)], parted(text))
 
 
 class BadSignTest(unittest.TestCase):
