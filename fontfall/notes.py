@@ -41,5 +41,7 @@ def are_words_of_face(words):
 
 
 def is_number(word):
-    """Tell whether the word is one to three figures."""
-    return 1 <= len(word) <= MOST_FIGURES and all(figure in FIGURES for figure in word)
+    """Tell whether the word is one to three figures without a needless 0."""
+    if not 1 <= len(word) <= MOST_FIGURES or not all(figure in FIGURES for figure in word):
+        return False
+    return word == "0" or word[0] != "0"

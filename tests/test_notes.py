@@ -85,11 +85,9 @@ class ReadTest(NotesTest):
         (name, rank, signs), = read("face a 3 1 2").faces()
         self.assertEqual([type(part) for part in (name, rank, signs, *signs)], [str, int, tuple, int, int])
 
-    def test_needless_0_within_three_figures(self):
-        self.assert_read("face a 00 000 01 002 010", [("a", 0, (0, 1, 2, 10))])
-        self.assert_read("face a 007", [("a", 7, ())])
-        self.assertEqual(written(read("face a 007 01 099")), "face a 7 1 99")
-        self.assert_bad_case("face a 0 1 01", "face", 0)
+    def test_a_0_that_is_not_needless(self):
+        self.assert_read("face a 0 0", [("a", 0, (0,))])
+        self.assert_read("face a 0 0 10 100 101 200", [("a", 0, (0, 10, 100, 101, 200))])
 
     def test_two_read_cases_stand_apart(self):
         first, second = read("face a 0 1"), read("face a 0 1")
@@ -119,6 +117,13 @@ class BadTextTest(NotesTest):
                 self.assert_bad_row(f"face a {word}")
                 self.assert_bad_row(f"face a 0 {word}")
                 self.assert_bad_row(f"face a 0 1 {word} 3")
+
+    def test_a_needless_0(self):
+        for word in ("00", "000", "01", "001", "07", "007", "010", "099"):
+            with self.subTest(word):
+                self.assert_bad_row(f"face a {word}")
+                self.assert_bad_row(f"face a 0 {word}")
+                self.assert_bad_row(f"face a 0 1 {word} 300")
 
     def test_four_figures(self):
         for word in ("1000", "0000", "0001", "12345"):
@@ -151,6 +156,9 @@ class BadTextTest(NotesTest):
     def test_bad_text_goes_ahead_of_bad_case(self):
         self.assert_bad_text("face a 10\nface a 0 2 1\nface b", 2)
         self.assert_bad_text("face a 0\nface a 0\nface a 0 1000", 2)
+        self.assert_bad_text("face a 0\nface a 0\nface b 00", 2)
+        self.assert_bad_text("face a 0 00 918\nface a 0 00 918\nface b 7 400 401 918 936", 0)
+        self.assert_bad_text("face a 0 1 01", 0)
         self.assert_bad_text("\n".join(["face a 0"] * 9 + ["face"]), 9)
 
 
